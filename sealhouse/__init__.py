@@ -1,0 +1,1 @@
+"""Sealhouse: parts with faces, linked, sealed, exchanged."""
