@@ -180,7 +180,7 @@ class DeclarationsTest(RefusingTest):
         for item in ("hid", "()", "(hid)", "(hid t t)", "(hid 7)", "(hid q.t)", "(hid (t))", "(told t)", "(told t a a)",
                      "(told 7 a)", "(told t 7)", "(fun g ())", "(fun g () a a)", "(fun g a a)", "(fun g (7) a)",
                      "(fun 7 () a)", "(fun g () 7)", "(fun g () a x)", "(kind t a)", "(open q)", "((hid t))", "(see t)",
-                     "(fun g ((x a)) a)"):
+                     "(fun g ((x a)) a)", "(see g () a)"):
             self.refuses(read_house, [f"(face f {item})", f"(face f (hid t) {item})"])
 
     def test_parts(self):
@@ -215,7 +215,7 @@ class DeclarationsTest(RefusingTest):
                      "(open q r)", "(open 7)", "(open q.r)", "(open (q))", "(fun g () a)", "(fun g () a x x)",
                      "(fun 7 () a x)", "(fun g x a x)", "(fun g (x) a x)", "(fun g ((x)) a x)", "(fun g ((x a a)) a x)",
                      "(fun g ((7 a)) a x)", "(fun g ((x 7)) a x)", "(fun g () 7 x)", "(fun g () a 7)", "(hid t)",
-                     "(told t a)", "(fun g (a) a)", "((open q))"):
+                     "(told t a)", "(fun g (a) a)", "((open q))", "(see g () a x)"):
             self.refuses(read_house, [f"(part p bare {item})", f"(maker m ((x f)) bare {item})"])
 
     def test_makers(self):
@@ -249,7 +249,8 @@ class DeclarationsTest(RefusingTest):
                          [("face", "f", ()), ("part", "p", None, ()), ("face", "f", ())])
 
     def test_no_declarations(self):
-        self.refuses(read_house, ["face", "()", "7", "((face f))", "(hid t)", "(house f)", "(face f) a", "(face f) ()"])
+        self.refuses(read_house, ["face", "()", "7", "((face f))", "(hid t)", "(house f)", "(house p m q)", "(face f) a",
+                                  "(face f) ()"])
         self.refuses(declaration_of_tree, [(), "face", ("face",), (("face", "f"),), ("made", "p", "m")])
 
     def test_trees(self):
