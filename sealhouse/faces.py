@@ -13,16 +13,13 @@ class Face:
 
     def put(self, given, most=40):
         """A new Face in which kinds are put in for names, each kind of at most so many words."""
-        kinds = {}
-        for word, kind in self.kinds.items():
-            kinds[word] = bounded(put(kind, given), most)
-        funs = {}
-        for word, fun in self.funs.items():
-            funs[word] = put_in_fun(fun, given)
-            for kind in funs[word][0]:
+        result = put_in_face(self, given)
+        for kind in result.kinds.values():
+            bounded(kind, most)
+        for taken, answer in result.funs.values():
+            for kind in taken + (answer,):
                 bounded(kind, most)
-            bounded(funs[word][1], most)
-        return Face(kinds, funs)
+        return result
 
     def hidden(self):
         """The words of the own hidden kinds, in their order."""
@@ -32,6 +29,17 @@ class Face:
 def own_name(word):
     """The kind of an own hidden word."""
     return ("name", "", word)
+
+
+def put_in_face(face, given):
+    """A new Face in which kinds are put in for names, of however many words."""
+    kinds = {}
+    for word, kind in face.kinds.items():
+        kinds[word] = put(kind, given)
+    funs = {}
+    for word, fun in face.funs.items():
+        funs[word] = put_in_fun(fun, given)
+    return Face(kinds, funs)
 
 
 def put_in_fun(fun, given):

@@ -1,5 +1,6 @@
 """Writing: the texts of kinds, expressions and houses."""
 
+from sealhouse.expressions import within
 from sealhouse.trees import text_of
 
 
@@ -39,7 +40,7 @@ def expression_tree(expression):
     if expression[0] == "var":
         return expression[1]
     trees = list(words_ahead(expression))
-    for inner in expressions_within(expression):
+    for inner in within(expression):
         trees.append(expression_tree(inner))
     return tuple(trees)
 
@@ -60,20 +61,6 @@ def words_ahead(expression):
     if form == "call":
         return (near_or_far_word(expression[1], expression[2]),)
     return (form,)
-
-
-def expressions_within(expression):
-    """The expressions right within one that stands in a bracket."""
-    form = expression[0]
-    if form == "lit":
-        return ()
-    if form == "op":
-        return expression[3:]
-    if form == "call":
-        return expression[3]
-    if form in ("test", "as", "let"):
-        return expression[2:]
-    return expression[1:]
 
 
 def declaration_tree(declaration):

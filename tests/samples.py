@@ -1,5 +1,8 @@
-"""Kinds and faces that several tests use."""
+"""Kinds, faces and items that several tests use, and a test case that compares Faces."""
 
+import unittest
+
+from sealhouse.errors import NoFit
 from sealhouse.faces import face_of
 from sealhouse.reading import read_house
 
@@ -30,3 +33,27 @@ def wide(words, last=ONE):
 def face(text, parts=None):
     """The Face of items written in a text."""
     return face_of(read_house(f"(face f {text})")[0][2], parts or {})
+
+
+def items(text):
+    """A part's items, written in a text."""
+    return read_house(f"(part p bare {text})")[0][3]
+
+
+def seal(text):
+    """A seal, written in a text."""
+    return read_house(f"(part p {text})")[0][2]
+
+
+class SameTest(unittest.TestCase):
+    def same(self, one, kinds, funs):
+        """Whether a Face has just these words, in this order."""
+        self.assertEqual(list(one.kinds.items()), list(kinds.items()))
+        self.assertEqual(list(one.funs.items()), list(funs.items()))
+
+    def no_fit(self, part, name, due, found, call):
+        """Whether a call is refused with NoFit of these fields."""
+        with self.assertRaises(NoFit) as caught:
+            call()
+        error = caught.exception
+        self.assertEqual((error.part, error.name, error.due, error.found), (part, name, due, found))

@@ -3,18 +3,11 @@
 import itertools
 import unittest
 
-from samples import ONE, TWO, face, far, own, pair, wide
+from samples import ONE, TWO, SameTest, face, far, own, pair, wide
 from sealhouse.errors import NoFit, NoKind, TooBig, Twice
 from sealhouse.faces import Face, fitted, least, refined, under
 
 A, B, S, T = own("a"), own("b"), own("s"), own("t")
-
-
-class SameTest(unittest.TestCase):
-    def same(self, one, kinds, funs):
-        """Whether a Face has just these words, in this order."""
-        self.assertEqual(list(one.kinds.items()), list(kinds.items()))
-        self.assertEqual(list(one.funs.items()), list(funs.items()))
 
 
 class FaceTest(SameTest):
