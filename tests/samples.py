@@ -45,6 +45,15 @@ def seal(text):
     return read_house(f"(part p {text})")[0][2]
 
 
+def sums(count):
+    """An expression, written, of a weight of just so much, an odd number, and of few levels."""
+    if count == 1:
+        return "(lit 1 10)"
+    left = (count - 1) // 2
+    left -= 1 - left % 2
+    return f"(+ 10 {sums(left)} {sums(count - 1 - left)})"
+
+
 class SameTest(unittest.TestCase):
     def same(self, one, kinds, funs):
         """Whether a Face has just these words, in this order."""

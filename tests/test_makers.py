@@ -18,7 +18,7 @@ FACES = {
 }
 PARTS = {
     "one": Face({"t": far("one", "t"), "k": TWO}, {"make": ((), far("one", "t")), "read": ((far("one", "t"),), TWO)}),
-    "two": Face({"t": ONE}, {}),
+    "bit": Face({"t": ONE}, {}),
 }
 
 
@@ -152,7 +152,7 @@ class MakerOfTest(SameTest):
         made.formals[0][1].funs.clear()
         made.result.kinds.clear()
         made.formals.clear()
-        self.assertEqual((list(FACES), list(PARTS)), (["cell", "box", "only", "both"], ["one", "two"]))
+        self.assertEqual((list(FACES), list(PARTS)), (["cell", "box", "only", "both"], ["one", "bit"]))
         self.same(FACES["cell"], {"t": T}, {"make": ((), T), "read": ((T,), TWO)})
         self.assertEqual([word for word, want in other.formals], ["x", "y"])
         self.same(other.result, {"t": T}, {})
@@ -177,7 +177,7 @@ class MadeFaceTest(SameTest):
 
     def test_another_number_of_parts(self):
         bad = Face({}, {})
-        good = PARTS["two"]
+        good = PARTS["bit"]
         one = Maker([("x", FACES["only"])], Face({}, {}))
         two = Maker([("x", FACES["only"]), ("y", FACES["only"])], Face({}, {}))
         for made, given in ((one, []), (one, [good, good]), (two, [good]), (two, [good] * 3), (one, [bad, bad]),
@@ -190,20 +190,20 @@ class MadeFaceTest(SameTest):
         made = Maker([("x", FACES["only"]), ("y", Face({"t": pair(far("x", "t"), wide(39))}, {}))],
                      Face({"t": pair(far("x", "t"), wide(39))}, {}))
         with self.assertRaises(NoCount):
-            made_face(made, "p", [PARTS["two"]])
+            made_face(made, "p", [PARTS["bit"]])
 
     def test_a_part_that_does_not_fit(self):
         text = "(maker m ((x only) (y both (t x.t) (u (pair x.t x.t)))) bare)"
         swap = ((pair(ONE, pair(ONE, ONE)),), pair(pair(ONE, ONE), ONE))
         good = {"t": ONE, "u": pair(ONE, ONE)}
-        self.same(self.make(text, "p", [PARTS["two"], Face(good, {"swap": swap})]), {}, {})
+        self.same(self.make(text, "p", [PARTS["bit"], Face(good, {"swap": swap})]), {}, {})
         for given, name, due, found in (
             ([Face({}, {}), Face({}, {})], "t", T, None),
-            ([PARTS["two"], Face({"t": ONE}, {})], "u", pair(ONE, ONE), None),
-            ([PARTS["two"], Face({"u": TWO, "t": TWO}, {})], "t", ONE, TWO),
-            ([PARTS["two"], Face({"u": TWO, "t": ONE}, {})], "u", pair(ONE, ONE), TWO),
-            ([PARTS["two"], Face(good, {})], "swap", swap, None),
-            ([PARTS["two"], Face(good, {"swap": ((), ONE)})], "swap", swap, ((), ONE)),
+            ([PARTS["bit"], Face({"t": ONE}, {})], "u", pair(ONE, ONE), None),
+            ([PARTS["bit"], Face({"u": TWO, "t": TWO}, {})], "t", ONE, TWO),
+            ([PARTS["bit"], Face({"u": TWO, "t": ONE}, {})], "u", pair(ONE, ONE), TWO),
+            ([PARTS["bit"], Face(good, {})], "swap", swap, None),
+            ([PARTS["bit"], Face(good, {"swap": ((), ONE)})], "swap", swap, ((), ONE)),
         ):
             self.no_fit("p", name, due, found, lambda: self.make(text, "p", given))
 
@@ -230,14 +230,14 @@ class MadeFaceTest(SameTest):
     def test_the_word_of_the_made_part_is_a_formals(self):
         text = "(maker m ((x only)) (both (u x.t)) (kind t (num 1)) (kind u x.t) " \
                "(fun swap ((a (pair t u))) (pair u t) a))"
-        seen = self.make(text, "x", [PARTS["two"]])
+        seen = self.make(text, "x", [PARTS["bit"]])
         self.same(seen, {"t": far("x", "t"), "u": ONE}, {"swap": ((pair(far("x", "t"), ONE),),
                                                                  pair(ONE, far("x", "t")))})
 
     def test_two_words_of_one_hidden_kind(self):
         made = Maker([("x", FACES["only"])], Face({"s": T, "t": T, "r": far("x", "t")}, {"f": ((T,), T)}))
         t = far("p", "t")
-        self.same(made_face(made, "p", [PARTS["two"]]), {"s": t, "t": t, "r": ONE}, {"f": ((t,), t)})
+        self.same(made_face(made, "p", [PARTS["bit"]]), {"s": t, "t": t, "r": ONE}, {"f": ((t,), t)})
 
     def test_wanted_kinds_that_are_too_big(self):
         both = pair(far("x", "t"), far("x", "t"))
