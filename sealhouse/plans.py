@@ -44,6 +44,11 @@ class Plan:
             return {}
         return dict(makers[told[2]].formals)
 
+    def brought(self, part, word, seen):
+        """The Face whose words an `open` of that word brings in a part's items: of a formal the one that it wants."""
+        wants = self.wants_of(part, seen.makers)
+        return wants[word] if word in wants else seen.parts[word]
+
     def owner(self, part, word):
         """The part that a word ahead of a point stands for in a part's items; none is ahead where it is ""."""
         if word == "":

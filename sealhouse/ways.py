@@ -25,12 +25,10 @@ class Steps:
 
     def by_items(self, part, word):
         """The kind that a bare part's items tell of a word, as it stands there."""
-        known = dict(self.seen.parts)
-        known.update(self.plan.wants_of(part, self.seen.makers))
         for item in self.plan.items_of(part):
             if item[0] == "kind" and item[1] == word:
                 return item[2]
-            if item[0] == "open" and word in known[item[1]].kinds:
+            if item[0] == "open" and word in self.plan.brought(part, item[1], self.seen).kinds:
                 return ("name", item[1], word)
         return None
 

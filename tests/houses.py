@@ -3,13 +3,16 @@
 import random
 
 from sealhouse.errors import Refused
+from sealhouse.expressions import within
 from sealhouse.faces import under
 from sealhouse.kinds import names_in, normal
-from sealhouse.looker import Seen
+from sealhouse.linker import uses
+from sealhouse.looker import Seen, kind_of, look
 from sealhouse.makers import known_within
 from sealhouse.parts import full_face, wanted
 
 SIZES = (1, 2, 3, 10)
+MOST_ORDERS = 12
 # Words of formals, which later parts are called by, too.
 FORMALS = ("x", "y", "z", "v")
 
@@ -254,3 +257,53 @@ def built(seed):
         if len(builder.house) <= 13:
             builder.chance.choice((builder.part, builder.part, builder.maker, builder.made, builder.made))()
     return builder.house
+
+
+def uses_from_outside(house, seed, count):
+    """Expressions that are asked from outside, built at random: some of kinds without names, some of others."""
+    builder = Builder(seed)
+    builder.seen = look(house)
+    calls = {}
+    for part, face in builder.seen.parts.items():
+        calls.update({(part, word): fun for word, fun in face.funs.items()})
+    hidden = [fun[1] for fun in calls.values() if names_in(fun[1])]
+    told = []
+    for each in range(count):
+        kind = builder.some_kind({}, calls) if builder.often(0.7) else builder.kind({}, builder.seen.parts)
+        if hidden and builder.often(0.5):
+            kind = builder.chance.choice(hidden)
+        try:
+            kind = normal(kind, {}, builder.seen.parts)
+            use = builder.expression(kind, {}, calls, 4)
+            if use is not None and size_of(use) <= 300 and kind_of(builder.seen, use) == kind:
+                told.append((use, kind))
+        except Refused:
+            continue
+    return told
+
+
+def size_of(expression):
+    """How many expressions an expression has in it, counted with itself."""
+    return 1 + sum(size_of(each) for each in within(expression))
+
+
+def parts_of(house):
+    return [declaration[1] for declaration in house if declaration[0] in ("part", "made")]
+
+
+def orders(house, ahead=()):
+    """All orders in which parts stand behind those that they use, one by one."""
+    left = [part for part in parts_of(house) if part not in ahead]
+    if not left:
+        yield list(ahead)
+    for part in reversed(left):
+        if set(uses(house, part)) <= set(ahead):
+            yield from orders(house, ahead + (part,))
+
+
+def some_orders(house):
+    """The first ones of all orders."""
+    for number, order in enumerate(orders(house)):
+        if number == MOST_ORDERS:
+            return
+        yield order

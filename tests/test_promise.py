@@ -2,7 +2,7 @@
 
 import unittest
 
-from houses import built
+from houses import built, parts_of, some_orders
 from sealhouse.errors import BadOrder, TooBig, TooHeavy
 from sealhouse.kinds import names_in, put
 from sealhouse.linker import link, uses
@@ -11,29 +11,6 @@ from sealhouse.plain import plain_look, weights
 from sealhouse.ways import step, trail, way
 
 SEEDS = range(120)
-MOST_ORDERS = 12
-
-
-def parts_of(house):
-    return [declaration[1] for declaration in house if declaration[0] in ("part", "made")]
-
-
-def orders(house, ahead=()):
-    """All orders in which parts stand behind those that they use, one by one."""
-    left = [part for part in parts_of(house) if part not in ahead]
-    if not left:
-        yield list(ahead)
-    for part in reversed(left):
-        if set(uses(house, part)) <= set(ahead):
-            yield from orders(house, ahead + (part,))
-
-
-def some_orders(house):
-    """The first ones of all orders."""
-    for number, order in enumerate(orders(house)):
-        if number == MOST_ORDERS:
-            return
-        yield order
 
 
 class Written:
