@@ -34,3 +34,15 @@ def calls_in(expression):
             met[(here[1], here[2])] = True
         left.extend(within(here))
     return list(met)
+
+
+def variables_in(expression):
+    """The variables that stand anywhere in an expression, each once."""
+    met = {}
+    left = [expression]
+    while len(left) > 0:
+        here = left.pop()
+        if here[0] == "var":
+            met[here[1]] = True
+        left.extend(within(here))
+    return list(met)

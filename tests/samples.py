@@ -3,6 +3,7 @@
 import unittest
 
 from sealhouse.errors import NoFit
+from sealhouse.expressions import rebuilt, within
 from sealhouse.faces import face_of
 from sealhouse.reading import read_house
 
@@ -52,6 +53,12 @@ def sums(count):
     left = (count - 1) // 2
     left -= 1 - left % 2
     return f"(+ 10 {sums(left)} {sums(count - 1 - left)})"
+
+
+def exchanged_calls(expression, part):
+    """An expression in which that part's functions of the same words are called."""
+    told = rebuilt(expression, [exchanged_calls(each, part) for each in within(expression)])
+    return ("call", part) + told[2:] if told[0] == "call" else told
 
 
 class SameTest(unittest.TestCase):

@@ -10,8 +10,9 @@ from sealhouse.linker import link
 from sealhouse.looker import look
 from sealhouse.runner import ask, run
 from sealhouse.running import House
+from twins import twins
 
-SEEDS = range(120)
+SEEDS = range(90)
 USES = 10
 NUMBERING = ((1, 1), (1000, 7), (10 ** 18, 10 ** 18))
 
@@ -42,99 +43,104 @@ class RunsTest(unittest.TestCase):
     @classmethod
     def setUpClass(cls):
         cls.cases = []
-        for seed in SEEDS:
-            house = built(seed)
+        for make, seed in [(built, seed) for seed in SEEDS] + [(twins, seed) for seed in SEEDS[::3]]:
+            house = make(seed)
             try:
                 link(house)
             except Refused:
                 continue
-            cls.cases.append((seed, house, uses_from_outside(house, seed, USES)))
+            cls.cases.append(((make.__name__, seed), house, uses_from_outside(house, seed, USES)))
 
     def each_use(self):
-        for seed, house, told in self.cases:
+        for title, house, told in self.cases:
             for number, (use, kind) in enumerate(told):
-                with self.subTest(seed=seed, number=number):
-                    yield house, use, kind
+                yield title + (number,), house, use, kind
 
     def test_there_are_enough(self):
         rows = []
         hidden = plain = 0
-        for house, use, kind in self.each_use():
-            running = House(house)
-            running.run(use)
-            rows.append(len(running.rows))
-            hidden += bool(names_in(kind))
-            plain += not names_in(kind)
+        for at, house, use, kind in self.each_use():
+            with self.subTest(at=at):
+                running = House(house)
+                running.run(use)
+                rows.append(len(running.rows))
+                hidden += bool(names_in(kind))
+                plain += not names_in(kind)
         self.assertGreater(min(hidden, plain), 100)
         self.assertGreater(sum(rows), 2000)
         self.assertGreater(max(rows), 12)
 
     def test_the_same_answer_linked_in_each_order_and_as_it_stands(self):
-        for seed, house, told in self.cases:
+        for title, house, told in self.cases:
             programs = [link(house, order) for order in some_orders(house)]
             for number, (use, kind) in enumerate(told):
-                with self.subTest(seed=seed, number=number):
+                with self.subTest(title=title, number=number):
                     due = House(house).run(use)
                     for program in programs:
                         self.assertEqual(run(program, use), due)
 
     def test_the_answer_with_marks_bared_is_that_without(self):
-        for house, use, kind in self.each_use():
-            due = House(house).run(use)
-            for start, step in NUMBERING:
-                marks = Marks(start, step)
-                found = House(house, marks).run(use)
-                self.assertEqual(marks.bared(found), due)
-                self.assertTrue(marked_rightly(kind, found))
-                if not names_in(kind):
-                    self.assertEqual(found, due)
+        for at, house, use, kind in self.each_use():
+            with self.subTest(at=at):
+                due = House(house).run(use)
+                for start, step in NUMBERING:
+                    marks = Marks(start, step)
+                    found = House(house, marks).run(use)
+                    self.assertEqual(marks.bared(found), due)
+                    self.assertTrue(marked_rightly(kind, found))
+                    if not names_in(kind):
+                        self.assertEqual(found, due)
 
     def test_the_rows_with_marks_bared_are_those_without(self):
-        for house, use, kind in self.each_use():
-            plain = House(house)
-            plain.run(use)
-            for start, step in NUMBERING[:2]:
-                marks = Marks(start, step)
-                marked = House(house, marks)
-                marked.run(use)
-                bared = [(p, f, tuple(marks.bared(value) for value in values), marks.bared(answer))
-                         for p, f, values, answer in marked.rows]
-                self.assertEqual(bared, plain.rows)
+        for at, house, use, kind in self.each_use():
+            with self.subTest(at=at):
+                plain = House(house)
+                plain.run(use)
+                for start, step in NUMBERING[:2]:
+                    marks = Marks(start, step)
+                    marked = House(house, marks)
+                    marked.run(use)
+                    bared = [(p, f, tuple(marks.bared(value) for value in values), marks.bared(answer))
+                             for p, f, values, answer in marked.rows]
+                    self.assertEqual(bared, plain.rows)
 
     def test_just_the_values_of_hidden_kinds_are_marks(self):
-        for house, use, kind in self.each_use():
-            faces = look(house).parts
-            marked = House(house, Marks())
-            marked.run(use)
-            for p, f, values, answer in marked.rows:
-                kinds, told = faces[p].funs[f]
-                self.assertEqual(len(values), len(kinds))
-                for each, value in zip(kinds + (told,), values + (answer,)):
-                    self.assertTrue(marked_rightly(each, value), (p, f, each, value))
+        for at, house, use, kind in self.each_use():
+            with self.subTest(at=at):
+                faces = look(house).parts
+                marked = House(house, Marks())
+                marked.run(use)
+                for p, f, values, answer in marked.rows:
+                    kinds, told = faces[p].funs[f]
+                    self.assertEqual(len(values), len(kinds))
+                    for each, value in zip(kinds + (told,), values + (answer,)):
+                        self.assertTrue(marked_rightly(each, value), (p, f, each, value))
 
     def test_marks_are_numbered_alike_whatever_start_and_step(self):
-        for house, use, kind in self.each_use():
-            found = []
-            for start, step in NUMBERING:
-                running = House(house, Marks(start, step))
-                met = {}
-                found.append((running.run(use), running.rows))
-                found[-1] = without_numbers(found[-1][0], met), [
-                    (p, f, without_numbers(values, met), without_numbers(answer, met))
-                    for p, f, values, answer in found[-1][1]]
-            self.assertEqual(found[1:], found[:1] * 2)
+        for at, house, use, kind in self.each_use():
+            with self.subTest(at=at):
+                found = []
+                for start, step in NUMBERING:
+                    running = House(house, Marks(start, step))
+                    met = {}
+                    found.append((running.run(use), running.rows))
+                    found[-1] = without_numbers(found[-1][0], met), [
+                        (p, f, without_numbers(values, met), without_numbers(answer, met))
+                        for p, f, values, answer in found[-1][1]]
+                self.assertEqual(found[1:], found[:1] * 2)
 
     def test_rows_are_what_the_linked_program_answers(self):
-        for house, use, kind in self.each_use():
-            running = House(house)
-            running.run(use)
-            program = link(house)
-            for p, f, values, answer in running.rows:
-                self.assertEqual(ask(program, p, f, list(values)), answer)
+        for at, house, use, kind in self.each_use():
+            with self.subTest(at=at):
+                running = House(house)
+                running.run(use)
+                program = link(house)
+                for p, f, values, answer in running.rows:
+                    self.assertEqual(ask(program, p, f, list(values)), answer)
 
     def test_several_uses_on_one_house(self):
-        for seed, house, told in self.cases:
-            with self.subTest(seed=seed):
+        for title, house, told in self.cases:
+            with self.subTest(title=title):
                 together = House(house)
                 rows = []
                 for use, kind in told:

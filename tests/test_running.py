@@ -223,10 +223,12 @@ class RowsTest(unittest.TestCase):
         told = house(CELL + ONE)
         told.ask("one", "make", [1])
         before = told.rows
-        told.ask("one", "make", [2])
         told.run(use("(one.make (lit 3 9))"))
+        between = told.rows
+        told.ask("one", "make", [2])
         self.assertEqual(before, [("one", "make", (1,), (2, 0))])
-        self.assertEqual(len(told.rows), 3)
+        self.assertEqual(between, before + [("one", "make", (3,), (4, 0))])
+        self.assertEqual(told.rows, between + [("one", "make", (2,), (3, 0))])
 
     def test_each_house_has_its_own(self):
         text = CELL + ONE
